@@ -1,0 +1,1 @@
+"""Plaits of strands: their words and moves, their order, their forms."""

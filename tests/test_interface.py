@@ -1,0 +1,43 @@
+"""The names of the interface: that they exist, take what is written there, and stand in their files."""
+
+import ast
+import importlib
+import inspect
+import unittest
+
+from tests.samples import PACKAGE
+
+FUNCTIONS = {
+    "words": {"is_word": ["strands", "word"], "undone": ["word"], "mirrored": ["word"], "turned_back": ["word"],
+              "shifted": ["word"], "flipped": ["strands", "word"], "total": ["word"]},
+    "moves": {"is_move": ["strands", "move"], "made": ["strands", "word", "move"],
+              "leads": ["strands", "one", "moves", "other"]},
+    "reducing": {"reduced": ["strands", "word"], "sense": ["word"]},
+}
+CLASSES = {
+    "errors": ["PlaitError", "BadMove", "BadText", "NoPlait"],
+}
+
+
+def defined_in(module, kind):
+    tree = ast.parse((PACKAGE / f"{module}.py").read_text(encoding="ascii"))
+    return [node.name for node in tree.body if isinstance(node, kind)]
+
+
+class InterfaceTest(unittest.TestCase):
+
+    def test_functions(self):
+        for module, functions in FUNCTIONS.items():
+            found = importlib.import_module(f"strandsplaited.{module}")
+            for name, arguments in functions.items():
+                self.assertIn(name, defined_in(module, ast.FunctionDef))
+                self.assertEqual(list(inspect.signature(getattr(found, name)).parameters), arguments)
+
+    def test_classes(self):
+        for module, classes in CLASSES.items():
+            for name in classes:
+                self.assertIn(name, defined_in(module, ast.ClassDef))
+
+
+if __name__ == "__main__":
+    unittest.main()
