@@ -11,27 +11,26 @@ class Bench:
 
     def put_pair(self, place, letter):
         """Puts the letter in at the place, and the letter with the other sign behind it."""
-        self._make(place, (), (letter, -letter))
+        self.make(place, (), (letter, -letter))
 
     def take_pair(self, place):
         """Takes out the letter at the place and the one with the other sign behind it."""
         letter = self.letters[place]
-        self._make(place, (letter, -letter), ())
+        self.make(place, (letter, -letter), ())
 
     def exchange(self, place):
         """Exchanges the letter at the place and the one behind it."""
         one, other = self.letters[place:place + 2]
-        self._make(place, (one, other), (other, one))
+        self.make(place, (one, other), (other, one))
 
     def turn(self, place):
         """Makes b a b of the letters a b a from the place on."""
         one, other = self.letters[place:place + 2]
-        self._make(place, (one, other, one), (other, one, other))
+        self.make(place, (one, other, one), (other, one, other))
 
-    def _make(self, place, old, new):
+    def make(self, place, old, new):
+        """Makes the move, which the caller knows to be one that can be made."""
         self.letters[place:place + len(old)] = new
-        self.moves.append((place, self._once(old), self._once(new)))
-
-    def _once(self, word):
-        # There can be a million moves, of few words: keeping equal words once saves most of the memory.
-        return self._kept.setdefault(word, word)
+        move = (place, old, new)
+        # There can be millions of moves, of which most are equal to others: keeping these once saves the memory.
+        self.moves.append(self._kept.setdefault(move, move))

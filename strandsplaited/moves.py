@@ -50,18 +50,23 @@ def made(strands, word, move):
     return word[:place] + new + word[place + len(old):]
 
 
-def leads(strands, one, moves, other):
-    """Tells whether the moves, one behind the other, make the second word out of the first one."""
-    letters = list(one)
+def led_to(strands, word, moves):
+    """Returns the word to which the moves lead the word, or None if one of them is none or cannot be made."""
+    letters = list(word)
     # A list can have a million moves, but they are of a few hundred kinds: each is looked into once.
     known = set()
     for move in moves:
         place, old, new = move
         if (old, new) not in known:
             if not is_move(strands, move):
-                return False
+                return None
             known.add((old, new))
         if not _stands_there(letters, place, old):
-            return False
+            return None
         letters[place:place + len(old)] = new
-    return tuple(letters) == other
+    return tuple(letters)
+
+
+def leads(strands, one, moves, other):
+    """Tells whether the moves, one behind the other, make the second word out of the first one."""
+    return led_to(strands, one, moves) == other

@@ -13,6 +13,17 @@ FUNCTIONS = {
     "moves": {"is_move": ["strands", "move"], "made": ["strands", "word", "move"],
               "leads": ["strands", "one", "moves", "other"]},
     "reducing": {"reduced": ["strands", "word"], "sense": ["word"]},
+    "judging": {"judge": ["strands", "one", "other"], "accepts": ["strands", "one", "other", "paper"]},
+    "ordering": {"compare": ["strands", "one", "other"], "ascending": ["strands", "words"],
+                 "floor": ["strands", "word"]},
+    "rows": {"plain_row": ["strands"], "half_turn": ["strands"], "row_of": ["strands", "word"],
+             "crossings": ["row"], "starts": ["row"], "ends": ["row"], "followed": ["row", "other"],
+             "word_of_row": ["row"]},
+    "forms": {"form_of": ["strands", "word"], "form_word": ["strands", "form"],
+              "product": ["strands", "one", "other"], "undone_form": ["strands", "form"],
+              "is_form": ["strands", "form"]},
+    "curves": {"plain_curve": ["strands"], "carried": ["curve", "word"], "curve_of": ["strands", "word"],
+               "lean": ["curve"]},
 }
 CLASSES = {
     "errors": ["PlaitError", "BadMove", "BadText", "NoPlait"],

@@ -52,6 +52,13 @@ class LanguageTest(unittest.TestCase):
                 if isinstance(node, (ast.FunctionDef, ast.ClassDef)):
                     self.assertIsNotNone(ast.get_docstring(node) if not node.name.startswith("_") else "", path)
 
+    def test_stars_in_calls_stand_before_names(self):
+        for path, tree in self.trees():
+            for node in ast.walk(tree):
+                for argument in node.args if isinstance(node, ast.Call) else []:
+                    if isinstance(argument, ast.Starred):
+                        self.assertIsInstance(argument.value, (ast.Name, ast.Attribute), path)
+
     def test_no_percent_sign_in_a_string(self):
         for path, tree in self.trees():
             for node in ast.walk(tree):

@@ -5,27 +5,9 @@ from itertools import product
 
 from strandsplaited.errors import BadMove
 from strandsplaited.moves import is_move, leads, made
-from tests.samples import Dice
+from tests.samples import Dice, kinds_of, letters_of
 
 HUGE = 10**25
-
-
-def letters_of(strands):
-    return [k for k in range(1 - strands, strands) if k]
-
-
-def kinds_of(strands):
-    """All pairs (old, new) of moves, listed by the words of point 5 and not by trying pairs."""
-    kinds = set()
-    for a in letters_of(strands):
-        kinds.add(((), (a, -a)))
-        kinds.add(((a, -a), ()))
-        for b in letters_of(strands):
-            if abs(abs(a) - abs(b)) >= 2:
-                kinds.add(((a, b), (b, a)))
-            if b in (a - 1, a + 1) and (a > 0) == (b > 0):
-                kinds.add(((a, b, a), (b, a, b)))
-    return kinds
 
 
 class IsMoveTest(unittest.TestCase):

@@ -6,14 +6,7 @@ from itertools import product
 from strandsplaited.moves import leads
 from strandsplaited.reducing import reduced, sense
 from strandsplaited.words import mirrored, shifted, turned_back, undone
-from tests.samples import Dice, lean_of
-
-
-def half_turn_word(strands):
-    word = ()
-    for last in range(strands - 1, 0, -1):
-        word += tuple(range(1, last + 1))
-    return word
+from tests.samples import Dice, half_turn_word, lean_of
 
 
 class SenseTest(unittest.TestCase):
