@@ -3,7 +3,9 @@
 import unittest
 
 from strandsplaited.curves import carried, curve_of, lean, plain_curve
-from strandsplaited.words import undone
+from strandsplaited.forms import form_of
+from strandsplaited.ordering import compare
+from strandsplaited.words import mirrored, undone
 from tests.samples import Dice, changed_by_moves, curve_told, half_turn_word, lean_of
 
 
@@ -46,6 +48,40 @@ class CurveTest(unittest.TestCase):
             self.assertEqual(curve_of(strands, word), curve_of(strands, other))
             self.assertNotEqual(curve_of(strands, word + (1,)), curve_of(strands, other))
 
+    def test_undone_words_behind(self):
+        for strands in range(2, 9):
+            dice = Dice(80 + strands)
+            for length in (1, 10, 250, 500):
+                word = dice.word(strands, length)
+                self.assertEqual(curve_of(strands, word + undone(word)), plain_curve(strands))
+                self.assertEqual(curve_of(strands, undone(word) + word), plain_curve(strands))
+
+    def test_carried_in_two_steps(self):
+        for strands in range(2, 9):
+            dice = Dice(100 + strands)
+            word = dice.word(strands, 500)
+            for at in (0, 1, 250, 499, 500):
+                self.assertEqual(carried(curve_of(strands, word[:at]), word[at:]), curve_of(strands, word))
+
+    def test_whole_turn_put_in_anywhere(self):
+        for strands in range(2, 9):
+            dice = Dice(120 + strands)
+            word = dice.word(strands, 60)
+            for turn in (half_turn_word(strands) * 2, undone(half_turn_word(strands) * 2)):
+                told = curve_of(strands, turn + word)
+                for at in (1, 20, 59, 60):
+                    self.assertEqual(curve_of(strands, word[:at] + turn + word[at:]), told)
+                self.assertNotEqual(told, curve_of(strands, word))
+
+    def test_unlike_words_have_other_curves(self):
+        for strands in range(2, 9):
+            dice = Dice(140 + strands)
+            words = [dice.word(strands, dice.below(5)) for _ in range(40)]
+            for one in words:
+                for other in words:
+                    self.assertEqual(curve_of(strands, one) == curve_of(strands, other),
+                                     form_of(strands, one) == form_of(strands, other))
+
 
 class LeanTest(unittest.TestCase):
 
@@ -66,6 +102,22 @@ class LeanTest(unittest.TestCase):
             for _ in range(20):
                 word = dice.word(strands, 12)
                 self.assertEqual(lean(curve_of(strands, word)), lean_of(strands, word))
+                self.assertEqual(lean(curve_of(strands, mirrored(word))), -lean_of(strands, word))
+
+    def test_plain_curve(self):
+        for strands in range(2, 9):
+            self.assertEqual(lean(plain_curve(strands)), 0)
+            word = Dice(strands).word(strands, 500)
+            self.assertEqual(lean(curve_of(strands, word + undone(word))), 0)
+
+    def test_leans_as_the_order_says(self):
+        for strands in range(2, 9):
+            dice = Dice(80 + strands)
+            for length in (1, 3, 9, 27, 81, 243, 500):
+                one, other = dice.word(strands, length), dice.word(strands, length)
+                self.assertEqual(lean(curve_of(strands, undone(one) + other)), -compare(strands, one, other))
+                self.assertEqual(lean(curve_of(strands, one)), compare(strands, one, ()))
+                self.assertEqual(lean(curve_of(strands, undone(one) + one)), 0)
 
 
 if __name__ == "__main__":

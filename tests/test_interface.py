@@ -24,10 +24,20 @@ FUNCTIONS = {
               "is_form": ["strands", "form"]},
     "curves": {"plain_curve": ["strands"], "carried": ["curve", "word"], "curve_of": ["strands", "word"],
                "lean": ["curve"]},
+    "strings": {"strings_of": ["strands", "word"], "is_plaited": ["strands", "strings"],
+                "word_of_strings": ["strands", "strings"]},
 }
 CLASSES = {
     "errors": ["PlaitError", "BadMove", "BadText", "NoPlait"],
 }
+# Each class with the arguments by which it is made, and those of its methods.
+METHODS = {
+    ("wordings", "Wordings"): {"__init__": ["row"], "count": [], "wording": ["place"], "place": ["word"],
+                               "wordings": ["start"]},
+    ("counting", "Positive"): {"__init__": ["strands"], "count": ["many"], "place": ["word"],
+                               "at": ["many", "place"], "all_from": ["many", "start"]},
+}
+GENERATORS = [("wordings", "Wordings", "wordings"), ("counting", "Positive", "all_from")]
 
 
 def defined_in(module, kind):
@@ -48,6 +58,19 @@ class InterfaceTest(unittest.TestCase):
         for module, classes in CLASSES.items():
             for name in classes:
                 self.assertIn(name, defined_in(module, ast.ClassDef))
+
+    def test_methods(self):
+        for (module, name), methods in METHODS.items():
+            self.assertIn(name, defined_in(module, ast.ClassDef))
+            found = getattr(importlib.import_module(f"strandsplaited.{module}"), name)
+            for method, arguments in methods.items():
+                self.assertIn(method, vars(found))
+                self.assertEqual(list(inspect.signature(vars(found)[method]).parameters), ["self"] + arguments)
+
+    def test_generators(self):
+        for module, name, method in GENERATORS:
+            found = getattr(importlib.import_module(f"strandsplaited.{module}"), name)
+            self.assertTrue(inspect.isgeneratorfunction(vars(found)[method]))
 
 
 if __name__ == "__main__":
