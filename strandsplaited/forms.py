@@ -24,8 +24,8 @@ def product(strands, one, other):
     """Returns the normal form of the plait of the first form's word with that of the second one behind it."""
     turns, rows = one
     more, behind = other
-    ahead = [_led_past(row, more) for row in rows]
-    return _gathered(strands, turns + more, ahead + list(behind))
+    ahead = [led_past(row, more) for row in rows]
+    return gathered(strands, turns + more, ahead + list(behind), {})
 
 
 def undone_form(strands, form):
@@ -59,14 +59,14 @@ def _form_of_steps(strands, steps, turns):
     rows = []
     for row, is_undone in steps[::-1]:
         if is_undone:
-            rows.append(_led_past(_rest(row), turns))
+            rows.append(led_past(rest_of(row), turns))
             turns -= 1
         else:
-            rows.append(_led_past(row, turns))
-    return _gathered(strands, turns, rows[::-1])
+            rows.append(led_past(row, turns))
+    return gathered(strands, turns, rows[::-1], {})
 
 
-def _rest(row):
+def rest_of(row):
     """Returns the row that makes the half turn with this row behind it."""
     rest = list(row)
     for place, strand in enumerate(row):
@@ -74,20 +74,23 @@ def _rest(row):
     return tuple(rest)
 
 
-def _led_past(row, turns):
+def led_past(row, turns):
     """Returns the row that stands behind so many half turns if this row stood ahead of them."""
     if turns & 1:
         return tuple([len(row) - 1 - strand for strand in row[::-1]])
     return row
 
 
-def _gathered(strands, turns, rows):
-    """Returns the normal form of so many half turns with any rows behind them."""
+def gathered(strands, turns, rows, known):
+    """Returns the normal form of so many half turns with any rows behind them.
+
+    What two rows become beside one another is kept in the dict that is passed.
+    """
     plain = plain_row(strands)
     half = half_turn(strands)
     found = []
     for row in rows:
-        _put_behind(found, row)
+        _put_behind(found, row, known)
         # Only the last row can have been taken over whole.
         if found[-1] == plain:
             found.pop()
@@ -97,12 +100,12 @@ def _gathered(strands, turns, rows):
     return turns + whole, tuple(found[whole:])
 
 
-def _put_behind(rows, row):
+def _put_behind(rows, row, known):
     """Puts the row behind rows that may follow one another, and lets these take over what they can."""
     rows.append(row)
     at = len(rows) - 1
     while at > 0:
-        ahead, rest = _taken_over(rows[at - 1], rows[at])
+        ahead, rest = taken_over(rows[at - 1], rows[at], known)
         if rest == rows[at]:
             return
         rows[at - 1] = ahead
@@ -110,8 +113,19 @@ def _put_behind(rows, row):
         at -= 1
 
 
+def taken_over(row, later, known):
+    """Returns two rows of the same plait, the first one with all crossings of the second that it can take over.
+
+    What is not in the dict of known pairs yet is put there.
+    """
+    pair = (row, later)
+    if pair not in known:
+        known[pair] = _taken_over(row, later)
+    return known[pair]
+
+
 def _taken_over(row, later):
-    """Returns two rows of the same plait, the first one with all crossings of the second that it can take over."""
+    """Returns what the two rows become if the first one takes over crossings until it can take none."""
     ahead = list(row)
     places = places_of(later)
     at = 1

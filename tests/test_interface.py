@@ -26,6 +26,11 @@ FUNCTIONS = {
                "lean": ["curve"]},
     "strings": {"strings_of": ["strands", "word"], "is_plaited": ["strands", "strings"],
                 "word_of_strings": ["strands", "strings"]},
+    "conjugating": {"conjugate": ["strands", "one", "other"], "leads_by": ["strands", "one", "word", "other"]},
+    "closing": {"pieces": ["strands", "word"], "linked": ["strands", "word"], "polynomial": ["strands", "word"],
+                "colourings": ["strands", "word", "colours"]},
+    "texts": {"write_word": ["strands", "word"], "read_word": ["text"], "write_paper": ["paper"],
+              "read_paper": ["lines"]},
 }
 CLASSES = {
     "errors": ["PlaitError", "BadMove", "BadText", "NoPlait"],
@@ -36,6 +41,8 @@ METHODS = {
                                "wordings": ["start"]},
     ("counting", "Positive"): {"__init__": ["strands"], "count": ["many"], "place": ["word"],
                                "at": ["many", "place"], "all_from": ["many", "start"]},
+    ("loom", "Loom"): {"__init__": ["strands"], "put": ["place", "letters"], "take": ["place", "many"], "undo": [],
+                       "redo": [], "row": [], "form": [], "curve": [], "sense": []},
 }
 GENERATORS = [("wordings", "Wordings", "wordings"), ("counting", "Positive", "all_from")]
 
